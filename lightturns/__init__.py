@@ -1,0 +1,1 @@
+"""Keepers of lights, relieved by boat as weather lets."""

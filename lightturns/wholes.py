@@ -1,0 +1,11 @@
+"""Whole numbers and days."""
+
+
+def is_whole(thing):
+    """Is it an int that is neither True nor False?"""
+    return isinstance(thing, int) and not isinstance(thing, bool)
+
+
+def is_day(thing):
+    """Is it a whole number from 0 on?"""
+    return is_whole(thing) and thing >= 0

@@ -1,0 +1,29 @@
+"""Whole numbers and days [2, 6]."""
+
+import unittest
+
+from lightturns.wholes import is_day, is_whole
+
+FAR = 10**60 - 1
+
+
+class Wholes(unittest.TestCase):
+    def test_ints_are_whole_numbers(self):
+        for number in (0, 1, -1, FAR, -FAR):
+            self.assertIs(is_whole(number), True)
+
+    def test_days_are_whole_numbers_from_0_on(self):
+        for number in (0, 1, FAR):
+            self.assertIs(is_day(number), True)
+        for number in (-1, -FAR):
+            self.assertIs(is_day(number), False)
+
+    def test_nothing_else_is_one(self):
+        for thing in (True, False, None, "", "1", b"1", [], [1], (), (1,), {}, {1: 1}, {1}, object()):
+            with self.subTest(thing):
+                self.assertIs(is_whole(thing), False)
+                self.assertIs(is_day(thing), False)
+
+
+if __name__ == "__main__":
+    unittest.main()
