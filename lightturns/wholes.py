@@ -9,3 +9,8 @@ def is_whole(thing):
 def is_day(thing):
     """Is it a whole number from 0 on?"""
     return is_whole(thing) and thing >= 0
+
+
+def is_within(thing, least, most):
+    """Is it a whole number from the least to the most?"""
+    return is_whole(thing) and least <= thing <= most

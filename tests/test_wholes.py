@@ -2,7 +2,7 @@
 
 import unittest
 
-from lightturns.wholes import is_day, is_whole
+from lightturns.wholes import is_day, is_whole, is_within
 
 FAR = 10**60 - 1
 
@@ -23,6 +23,12 @@ class Wholes(unittest.TestCase):
             with self.subTest(thing):
                 self.assertIs(is_whole(thing), False)
                 self.assertIs(is_day(thing), False)
+                self.assertIs(is_within(thing, -FAR, FAR), False)
+
+    def test_within_both_ends(self):
+        self.assertEqual([is_within(number, 2, 4) for number in range(-1, 7)], [False] * 3 + [True] * 3 + [False] * 2)
+        self.assertIs(is_within(FAR, 0, FAR - 1), False)
+        self.assertIs(is_within(FAR, FAR, FAR), True)
 
 
 if __name__ == "__main__":
