@@ -2,7 +2,7 @@
 
 import unittest
 
-from lightturns.wholes import is_day, is_whole, is_within
+from lightturns.wholes import is_day, is_from, is_whole, is_within, parts_for
 
 FAR = 10**60 - 1
 
@@ -23,7 +23,16 @@ class Wholes(unittest.TestCase):
             with self.subTest(thing):
                 self.assertIs(is_whole(thing), False)
                 self.assertIs(is_day(thing), False)
+                self.assertIs(is_from(thing, -FAR), False)
                 self.assertIs(is_within(thing, -FAR, FAR), False)
+
+    def test_from_one_on(self):
+        self.assertEqual([is_from(number, 1) for number in (-1, 0, 1, 2, FAR)], [False, False, True, True, True])
+
+    def test_parts_for(self):
+        self.assertEqual([parts_for(many, 3) for many in range(8)], [0, 1, 1, 1, 2, 2, 2, 3])
+        self.assertEqual(parts_for(FAR, 1), FAR)
+        self.assertEqual(parts_for(FAR, FAR - 1), 2)
 
     def test_within_both_ends(self):
         self.assertEqual([is_within(number, 2, 4) for number in range(-1, 7)], [False] * 3 + [True] * 3 + [False] * 2)
